@@ -7,7 +7,7 @@ import pathlib
 import unittest
 
 PACKAGE = pathlib.Path(__file__).resolve().parent.parent / "coinrows"
-MODULES = ("__init__", "errors", "field", "shapes")
+MODULES = ("__init__", "boards", "errors", "field", "notes", "rows", "shapes")
 ALLOWED = set(
     "len range enumerate zip min max sum abs sorted reversed int str bool list tuple dict set frozenset "
     "isinstance ord repr any all divmod Exception ValueError TypeError KeyError IndexError LookupError "
